@@ -1,0 +1,1 @@
+"""Lagshift: registers moved along the wires of a net, so that its beat is least."""

@@ -1,0 +1,104 @@
+"""Things that the tests share: odd things to hand in, sample nets, and nets made by a fixed rule."""
+
+from lagshift.nets import Net
+
+
+class Touchy:
+    """Fails when it is compared, measured, hashed, iterated over or asked for its truth."""
+
+    def fail(self, *rest):
+        raise RuntimeError("touched")
+
+    __eq__ = __ne__ = __lt__ = __le__ = __gt__ = __ge__ = fail
+    __bool__ = __len__ = __iter__ = __hash__ = __getitem__ = __int__ = __index__ = fail
+
+
+class Agreeing:
+    """Says that it equals anything."""
+
+    def __eq__(self, other):
+        return True
+
+    __hash__ = None
+
+
+def odd_things():
+    """Things of many kinds that are no list, no tuple, no text and no whole number."""
+    return [None, True, False, 1.0, 0.0, 1j, b"in", b"", {}, {0: 1}, set(), {0}, frozenset(),
+            range(3), iter([]), object(), Touchy(), Agreeing(), int, len, float("nan"), bytearray(2)]
+
+
+HUGE = 10 ** 60 - 1
+
+
+def small_net():
+    """An in, a sum that feeds itself, and an out."""
+    return Net([("in", 0), ("sum", 3), ("out", 0)], [(0, 1, ()), (1, 1, (5,)), (1, 2, ())])
+
+
+class Fixed:
+    """Numbers that look mixed, but are the same at each run."""
+
+    def __init__(self, seed):
+        self.state = seed * 7919 + 17
+
+    def below(self, many):
+        self.state = (self.state * 6364136223846793005 + 1442695040888963407) % 2 ** 64
+        return (self.state >> 33) % many
+
+
+INNER = ("sum", "times", "most", "least", "first", "one")
+
+
+def kinds_for(fixed, gates):
+    """Kinds in any order: at least one in, one out and one inner gate, the rest as it comes."""
+    kinds = ["in", "out", INNER[fixed.below(6)]]
+    while len(kinds) < gates:
+        kinds.append(("in", "out", *INNER, *INNER)[fixed.below(14)])
+    for at in range(len(kinds) - 1, 0, -1):
+        other = fixed.below(at + 1)
+        kinds[at], kinds[other] = kinds[other], kinds[at]
+    return kinds
+
+
+def fixed_wire(fixed, start, end, place):
+    """A wire whose registers stand wherever it goes against the hidden order of the gates."""
+    many = fixed.below(4)
+    if place[start] >= place[end]:
+        many += 1
+    return (start, end, tuple(fixed.below(97) for k in range(many)))
+
+
+def fixed_net(seed, gates=7, wires=14):
+    """A net of all kinds of gates; wires without registers lead either way between numbers."""
+    fixed = Fixed(seed)
+    kinds = kinds_for(fixed, gates)
+    place = [fixed.below(1000) for k in range(gates)]
+    starts = [k for k in range(gates) if kinds[k] != "out"]
+    inner = [k for k in range(gates) if kinds[k] in INNER]
+    ends = [k for k in range(gates) if kinds[k] in ("out", "first")]
+    while len(ends) < wires:
+        ends.append(inner[fixed.below(len(inner))])
+    made = [fixed_wire(fixed, starts[fixed.below(len(starts))], end, place) for end in ends]
+    for at in range(len(made) - 1, 0, -1):
+        other = fixed.below(at + 1)
+        made[at], made[other] = made[other], made[at]
+    waits = [0 if kind in ("in", "out") else fixed.below(101) for kind in kinds]
+    return Net(list(zip(kinds, waits)), made)
+
+
+def fixed_rows(seed, net, many):
+    """So many rows for this net."""
+    fixed = Fixed(seed + 500)
+    return [[fixed.below(97) for gate in net.ins()] for k in range(many)]
+
+
+def greatest_net():
+    """A net at the bounds: twelve gates, thirty wires, two hundred registers."""
+    gates = [("in", 0), ("in", 0)] + [(kind, 100) for kind in (*INNER, "sum", "times")] + [("out", 0), ("out", 0)]
+    wires = [(0, 2, ()), (1, 3, ()), (9, 10, ()), (8, 11, (1, 2, 3, 4, 5))]
+    for k in range(26):
+        start, end = 2 + k % 8, 2 + (k * 3 + 1) % 8
+        many = 8 if k % 2 == 0 else 7
+        wires.append((start, end, tuple((k * 31 + j * 7) % 97 for j in range(many))))
+    return Net(gates, wires)
