@@ -1,4 +1,6 @@
-"""What is a whole number, and what is a worth: asked of any thing."""
+"""What is a whole number, a worth, a beat: asked of any thing."""
+
+from lagshift.errors import NoBeat
 
 GREATEST_WORTH = 96
 
@@ -16,3 +18,9 @@ def is_whole_from_to(thing, least, greatest):
 def is_worth(thing):
     """Whether this is a whole number from 0 to 96."""
     return is_whole_from_to(thing, 0, GREATEST_WORTH)
+
+
+def check_beat(thing):
+    """Refuse what is no whole number from 0 on."""
+    if not is_whole(thing) or thing < 0:
+        raise NoBeat("a beat must be a whole number from 0 on")

@@ -2,9 +2,10 @@
 
 from lagshift.checks import is_whole_from_to, is_worth
 from lagshift.errors import NoGates, NoRing, NoWires
+from lagshift.graphs import order_along, ring_from
 
 KINDS = ("in", "out", "sum", "times", "most", "least", "first", "one")
-KINDS_WITHOUT_WAIT = ("in", "out")
+OUTER_KINDS = ("in", "out")
 KINDS_WITH_A_WIRE = ("out", "first")
 GREATEST_WAIT = 100
 
@@ -36,6 +37,11 @@ def places_of(kind, gates):
     return [number for number, gate in enumerate(gates) if gate[0] == kind]
 
 
+def is_outer(gate):
+    """Whether this gate is an "in" or an "out": these have neither a wait nor a lag."""
+    return gate[0] in OUTER_KINDS
+
+
 def check_gates(gates):
     """Refuse what is no list of one or more gates."""
     if not isinstance(gates, list) or len(gates) == 0:
@@ -53,7 +59,7 @@ def is_gate(thing):
     # A thing that is no text might answer == in a way of its own, so it is not looked for.
     if not isinstance(kind, str) or kind not in KINDS:
         return False
-    return is_whole_from_to(wait, 0, 0 if kind in KINDS_WITHOUT_WAIT else GREATEST_WAIT)
+    return is_whole_from_to(wait, 0, 0 if kind in OUTER_KINDS else GREATEST_WAIT)
 
 
 def check_wires(gates, wires):
@@ -100,20 +106,7 @@ def bare_order(many_gates, wires):
 
     Left out are those on, and behind, rings without registers; of a net all are told.
     """
-    bare = [(wire[0], wire[1]) for wire in wires if len(wire[2]) == 0]
-    missing = [0] * many_gates
-    for start, end in bare:
-        missing[end] += 1
-    placed = [gate for gate in range(many_gates) if missing[gate] == 0]
-    done = 0
-    while done < len(placed):
-        for start, end in bare:
-            if start == placed[done]:
-                missing[end] -= 1
-                if missing[end] == 0:
-                    placed.append(end)
-        done += 1
-    return placed
+    return order_along(many_gates, [(start, end) for start, end, held in wires if len(held) == 0])
 
 
 def bare_ring(placed, wires):
@@ -121,13 +114,6 @@ def bare_ring(placed, wires):
     back = {}
     for place, (start, end, held) in enumerate(wires):
         if len(held) == 0 and start not in placed:
-            back[end] = place
+            back[end] = (place, start)
     # A gate is left out only where such a wire comes from another one left out: each has a way back.
-    gate = min(list(back))
-    seen = {}
-    path = []
-    while gate not in seen:
-        seen[gate] = len(path)
-        path.append(back[gate])
-        gate = wires[back[gate]][0]
-    return path[seen[gate]:][::-1]
+    return ring_from(min(list(back)), back)[::-1]

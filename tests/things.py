@@ -61,15 +61,15 @@ def kinds_for(fixed, gates):
     return kinds
 
 
-def fixed_wire(fixed, start, end, place):
-    """A wire whose registers stand wherever it goes against the hidden order of the gates."""
-    many = fixed.below(4)
+def fixed_wire(fixed, start, end, place, most):
+    """A wire whose registers stand wherever it goes against the hidden order of the gates, elsewhere below most."""
+    many = fixed.below(most)
     if place[start] >= place[end]:
         many += 1
     return (start, end, tuple(fixed.below(97) for k in range(many)))
 
 
-def fixed_net(seed, gates=7, wires=14):
+def fixed_net(seed, gates=7, wires=14, most=4):
     """A net of all kinds of gates; wires without registers lead either way between numbers."""
     fixed = Fixed(seed)
     kinds = kinds_for(fixed, gates)
@@ -79,7 +79,7 @@ def fixed_net(seed, gates=7, wires=14):
     ends = [k for k in range(gates) if kinds[k] in ("out", "first")]
     while len(ends) < wires:
         ends.append(inner[fixed.below(len(inner))])
-    made = [fixed_wire(fixed, starts[fixed.below(len(starts))], end, place) for end in ends]
+    made = [fixed_wire(fixed, starts[fixed.below(len(starts))], end, place, most) for end in ends]
     for at in range(len(made) - 1, 0, -1):
         other = fixed.below(at + 1)
         made[at], made[other] = made[other], made[at]
@@ -102,3 +102,39 @@ def greatest_net():
         many = 8 if k % 2 == 0 else 7
         wires.append((start, end, tuple((k * 31 + j * 7) % 97 for j in range(many))))
     return Net(gates, wires)
+
+
+def fixed_lags(seed, net, most):
+    """Lags from -most to most."""
+    fixed = Fixed(seed + 900)
+    return [0 if kind in ("in", "out") else fixed.below(2 * most + 1) - most for kind, wait in net.gates]
+
+
+def few_registers(seed, gates=5, wires=7):
+    """A small net with few registers, so that much is to be gained by lags."""
+    return fixed_net(seed, gates, wires, 1 + seed % 2)
+
+
+def many_ways(held):
+    """Twelve gates, thirty wires, no ring, and very many ways from the first to the last gate."""
+    gates = [("in", 0)] + [("sum", 100)] * 10 + [("out", 0)]
+    return Net(gates, [(0, 1, ()), (10, 11, ())] + [(1 + k % 9, 2 + k % 9, held) for k in range(28)])
+
+
+def many_rings():
+    """A net at the bounds with 432 rings, and very many ways that lead off them and never back."""
+    gates = [("sum", k) for k in range(7)] + [("most", 100)] * 5
+    ends = [(0, 1)] * 4 + [(1, 2)] * 3 + [(2, 3)] * 3 + [(3, 4)] * 3 + [(4, 5)] * 2 + [(5, 6)] * 2 + [(6, 0)]
+    ends += [(0, 7)] + [(7, 8)] * 3 + [(8, 9)] * 3 + [(9, 10)] * 3 + [(10, 11)] * 2
+    many = [7 if k < 20 else 6 for k in range(30)]
+    return Net(gates, [(start, end, (k % 97,) * many[k]) for k, (start, end) in enumerate(ends)])
+
+
+def bound_nets():
+    """Nets at the bounds, of several shapes."""
+    long_ring = [("sum", 100)] * 12
+    held = (3,) * 200
+    return [greatest_net(), many_ways(()), many_ways((5,) * 7), many_rings(),
+            Net(long_ring, [(k, (k + 1) % 12, held if k == 5 else ()) for k in range(12)]),
+            Net([("times", 100)], [(0, 0, held[:7] if k < 20 else held[:6]) for k in range(30)]),
+            *[fixed_net(seed, 12, 30, 2) for seed in range(5)]]
