@@ -1,10 +1,11 @@
 """Bars: lags for a beat, or a round of pieces that shows that there are none."""
 
 from lagshift.checks import check_beat
-from lagshift.graphs import ring_from
+from lagshift.graphs import settle
 from lagshift.nets import is_outer
 from lagshift.pieces import end_of, is_piece, room_of
-from lagshift.waits import best_from, between, way_to
+from lagshift.spots import bounds_for, lags_at, spots_in
+from lagshift.waits import between
 
 
 def bar_fault(net, beat, thing):
@@ -30,44 +31,10 @@ def do_meet(net, end, start):
 def for_beat(net, beat):
     """("lags", lags) with lags for this beat, or ("bar", bar) with a bar against it."""
     check_beat(beat)
-    bounds = bounds_for(net, beat)
-    found = [0] * (len(net.gates) + 1)
-    onward = {}
-    changed = None
-    for turn in range(len(found)):
-        changed = None
-        for start, end, room, piece in bounds:
-            if found[start] > found[end] + room:
-                found[start] = found[end] + room
-                onward[start] = (piece, end)
-                changed = start
-        if changed is None:
-            # Only the differences of lags matter, so all are moved alike, to have 0 of each "in" and "out".
-            return ("lags", [found[spot] - found[-1] for spot in spots_of(net)])
-    # A way of bounds that comes by no spot twice has fewer of them than there were turns: the last change hangs on
-    # a longer one, so on a ring of bounds whose rooms come to less than 0.
-    return ("bar", ring_from(changed, onward))
-
-
-def bounds_for(net, beat):
-    """Tuples (start, end, room, piece): with lags for this beat, the start's lag is at most the end's and the room.
-
-    Start and end are spots. Lags that keep to these bounds are for this beat: a way with more registers than the
-    best one between its ends, or with less wait, asks for no more than that one.
-    """
-    spots = spots_of(net)
-    told = []
-    for start in range(len(net.gates)):
-        known, last = best_from(net, start)
-        for end in sorted(list(known)):
-            piece = way_to(net, end, last)
-            told.append((spots[start], spots[end], room_of(net, beat, piece), piece))
-    return told
-
-
-def spots_of(net):
-    """For each gate its own number, but for each "in" and "out", whose lags are all the same, the one behind all."""
-    return [len(net.gates) if is_outer(gate) else number for number, gate in enumerate(net.gates)]
+    found, ring = settle(spots_in(net), bounds_for(net, beat))
+    if found is None:
+        return ("bar", [piece for start, end, room, piece in ring])
+    return ("lags", lags_at(net, found))
 
 
 def least_beat(net):

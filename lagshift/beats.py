@@ -87,8 +87,12 @@ def check_row(net, row):
 def beat(net, row):
     """A tuple (the net behind the beat, the list of the outs' worths)."""
     told = worths(net, row)
-    behind = Net(net.gates, [wire_behind(wire, told) for wire in net.wires])
-    return behind, [told[gate] for gate in net.outs()]
+    return net_behind(net, told), [told[gate] for gate in net.outs()]
+
+
+def net_behind(net, told):
+    """The net behind a beat in which the gates had these worths."""
+    return Net(net.gates, [wire_behind(wire, told) for wire in net.wires])
 
 
 def wire_behind(wire, told):

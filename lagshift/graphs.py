@@ -1,4 +1,4 @@
-"""Orders and rings of numbered places, whatever leads from one to another."""
+"""Orders, rings and numbers of places, whatever leads from one to another."""
 
 
 def order_along(many, pairs):
@@ -33,3 +33,28 @@ def ring_from(place, onward):
         passed, place = onward[place]
         path.append(passed)
     return path[seen[place]:]
+
+
+def settle(many, bounds):
+    """A tuple (numbers, ring): a number for each place below many that keeps to all bounds, or a ring of bounds.
+
+    A bound is a tuple (start, end, room, thing): the start's number is at most the end's and the room. Told is one
+    of the two, the other one is None. A ring is a list of bounds, each from the end of the one ahead, whose rooms
+    come to less than 0: it shows that no numbers keep to all bounds.
+    """
+    found = [0] * many
+    onward = {}
+    changed = None
+    for turn in range(many):
+        changed = None
+        for bound in bounds:
+            start, end, room, thing = bound
+            if found[start] > found[end] + room:
+                found[start] = found[end] + room
+                onward[start] = (bound, end)
+                changed = start
+        if changed is None:
+            return found, None
+    # A way of bounds that comes by no place twice has fewer of them than there were turns: the last change hangs on
+    # a longer one, so on a ring of bounds whose rooms come to less than 0.
+    return None, ring_from(changed, onward)

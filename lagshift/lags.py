@@ -1,7 +1,7 @@
 """Lags: registers moved over the gates of a net, and how many each wire has then."""
 
 from lagshift.checks import is_whole_from_to
-from lagshift.errors import NoLags
+from lagshift.errors import NoLags, NotLet
 from lagshift.nets import is_outer
 
 GREATEST_LAG = 500
@@ -31,3 +31,12 @@ def check_lags(net, lags):
         greatest = 0 if is_outer(gate) else GREATEST_LAG
         if not is_whole_from_to(lag, -greatest, greatest):
             raise NoLags("a lag must be a whole number from -500 to 500, of an in or out 0")
+
+
+def let_counts(net, lags):
+    """As counts, but refuse lags that aren't let, by the first wire that has fewer registers than none."""
+    told = counts(net, lags)
+    for place, many in enumerate(told):
+        if many < 0:
+            raise NotLet(place)
+    return told

@@ -42,6 +42,11 @@ def is_outer(gate):
     return gate[0] in OUTER_KINDS
 
 
+def are_of_one_form(net, other):
+    """Whether two nets have the same gates, and wires with the same ends."""
+    return net.gates == other.gates and [wire[:2] for wire in net.wires] == [wire[:2] for wire in other.wires]
+
+
 def check_gates(gates):
     """Refuse what is no list of one or more gates."""
     if not isinstance(gates, list) or len(gates) == 0:

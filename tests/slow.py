@@ -1,6 +1,8 @@
-"""What the document says of lags, waits, bars and rings, gone through by hand: slow, and without the program's help."""
+"""What the document says, gone through by hand: slow, and without the program's help."""
 
 import itertools
+
+from lagshift.nets import Net
 
 OUTER = ("in", "out")
 
@@ -128,3 +130,93 @@ def is_bar(net, beat, bar):
             return False
     long = sum(wait_on(net, gate, wires) > beat for gate, wires in bar)
     return sum(held_on(net, wires) for gate, wires in bar) - long < 0
+
+
+def of_kind(kind, coming):
+    """What a gate of this kind makes of these worths, as the document says it."""
+    product = 1
+    for worth in coming:
+        product *= worth
+    return {"sum": sum(coming) % 97, "times": product % 97, "most": max(coming + [0]), "least": min(coming + [96]),
+            "first": (coming + [None])[0], "out": (coming + [None])[0], "one": int(any(coming))}[kind]
+
+
+class Slow:
+    """The worth of each gate in each beat, told from the first beat's registers and all rows alone."""
+
+    def __init__(self, net, rows):
+        self.net, self.rows, self.known = net, rows, {}
+
+    def gate(self, gate, at):
+        if (gate, at) not in self.known:
+            self.known[gate, at] = self.find(gate, at)
+        return self.known[gate, at]
+
+    def find(self, gate, at):
+        kind = self.net.gates[gate][0]
+        if kind == "in":
+            return self.rows[at][[k for k, one in enumerate(self.net.gates) if one[0] == "in"].index(gate)]
+        return of_kind(kind, [self.wire(wire, at) for wire in self.net.wires if wire[1] == gate])
+
+    def wire(self, wire, at):
+        start, end, held = wire
+        return held[at] if at < len(held) else self.gate(start, at - len(held))
+
+    def net_behind(self):
+        many = len(self.rows)
+        return Net(self.net.gates, [(start, end, tuple(self.wire((start, end, held), many + k)
+                                                       for k in range(len(held))))
+                                    for start, end, held in self.net.wires])
+
+    def outs(self):
+        numbers = [k for k, one in enumerate(self.net.gates) if one[0] == "out"]
+        return [[self.gate(out, at) for out in numbers] for at in range(len(self.rows))]
+
+
+def moved_by_hand(net, lags, rows):
+    """The net that moved tells, wire by wire from its row of worths; what is put in behind rows is not there to ask."""
+    slow, many = Slow(net, rows), moved_counts(net, lags)
+    first = [len(rows) - lags[end] for start, end, worths in net.wires]
+    held = [[] for wire in net.wires]
+    for place in range(max(map(sum, zip(first, many)), default=0)):
+        for k, wire in enumerate(net.wires):
+            if place < first[k] + many[k]:
+                worth = slow.wire(wire, place)
+                if place >= first[k]:
+                    held[k].append(worth)
+    return Net(net.gates, [(start, end, tuple(held[k])) for k, (start, end, worths) in enumerate(net.wires)])
+
+
+def balance(net, number, pieces, places):
+    """Of a gate: the numbers of the pieces that begin there less those that end there, less the same of the wires."""
+    begin = sum(many for (gate, wires), many in pieces if gate == number)
+    end = sum(many for (gate, wires), many in pieces if gates_on(net, gate, wires)[-1] == number)
+    out = sum(net.wires[place][0] == number for place in places)
+    into = sum(net.wires[place][1] == number for place in places)
+    return (begin - end) - (out - into)
+
+
+def bound_by_hand(net, beat, pieces, places):
+    """The bound of a paper where the wires at these places are counted, or None where it is no paper without fault."""
+    if type(pieces) is not list:
+        return None
+    bound = held_on(net, places)
+    for (gate, wires), many in pieces:
+        if type(wires) is not list or type(many) is not int or many < 1 or not is_way(net, gate, wires):
+            return None
+        bound -= many * (held_on(net, wires) - (wait_on(net, gate, wires) > beat))
+    for number, (kind, wait) in enumerate(net.gates):
+        if kind not in OUTER and balance(net, number, pieces, places) != 0:
+            return None
+    return bound
+
+
+def fewest_by_hand(net, beat, most, count=sum):
+    """The fewest registers of all lags from -most to most that do for the beat; count tells how many of the counts."""
+    best = None
+    for lags in all_lags(net, most):
+        many = moved_counts(net, lags)
+        if min(many, default=0) >= 0 and beat_by(net, many) <= beat:
+            here = count(many)
+            best = here if best is None else min(best, here)
+    return best

@@ -13,18 +13,10 @@ from lagshift.nets import Net
 from lagshift.rings import loads
 from lagshift.waits import beat_of, with_lags
 from tests.slow import OUTER, is_bar, is_for, least_by_hand
-from tests.things import HUGE, bound_nets, few_registers, fixed_net, greatest_net, many_ways, odd_things, small_net
+from tests.things import (HUGE, bound_nets, few_registers, fixed_net, greatest_net, many_ways, no_beats, odd_things,
+                          sample_net, small_net)
 
 FORM = ("form",)
-NO_BEAT = odd_things() + [-1, -2, -HUGE, "", "5", [], [5], (), (5,)]
-
-
-def sample_net():
-    """Two ways from ins to outs, with a ring on the one, and wires of both ways between two gates."""
-    gates = [("in", 0), ("sum", 10), ("most", 20), ("out", 0), ("in", 0), ("one", 5), ("out", 0)]
-    wires = [(0, 1, ()), (1, 2, ()), (2, 3, (1,)), (2, 1, (1, 2)), (4, 5, (3,)), (5, 6, ()), (1, 1, (7,)),
-             (1, 2, (4,))]
-    return Net(gates, wires)
 
 
 class Form(unittest.TestCase):
@@ -291,7 +283,7 @@ class ForBeat(unittest.TestCase):
             self.assertEqual(bar_fault(net, beat, bar)[0], "sum")
 
     def test_no_beat(self):
-        for beat in NO_BEAT:
+        for beat in no_beats():
             with self.assertRaises(NoBeat):
                 for_beat(small_net(), beat)
             for thing in [[(1, [])], [], None, [None]]:

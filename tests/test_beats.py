@@ -9,6 +9,7 @@ from lagshift import beats
 from lagshift.beats import beat, run, worths
 from lagshift.errors import LagError, NoRow
 from lagshift.nets import Net
+from tests.slow import Slow, of_kind
 from tests.things import HUGE, fixed_net, fixed_rows, greatest_net, odd_things, small_net
 
 BAD_WORTHS = odd_things() + [-1, 97, 98, 100, 101, HUGE, -HUGE, "", "1", [], [1], (), (1,)]
@@ -18,47 +19,6 @@ def fed(kind, many):
     """A gate of this kind, at place 0, with so many ins and an out."""
     gates = [(kind, 5), ("out", 0)] + [("in", 0)] * many
     return Net(gates, [(0, 1, ())] + [(2 + k, 0, ()) for k in range(many)])
-
-
-def of_kind(kind, coming):
-    """What a gate of this kind makes of these worths, as the document says it."""
-    product = 1
-    for worth in coming:
-        product *= worth
-    return {"sum": sum(coming) % 97, "times": product % 97, "most": max(coming + [0]), "least": min(coming + [96]),
-            "first": (coming + [None])[0], "out": (coming + [None])[0], "one": int(any(coming))}[kind]
-
-
-class Slow:
-    """The worth of each gate in each beat, told from the first beat's registers and all rows alone."""
-
-    def __init__(self, net, rows):
-        self.net, self.rows, self.known = net, rows, {}
-
-    def gate(self, gate, at):
-        if (gate, at) not in self.known:
-            self.known[gate, at] = self.find(gate, at)
-        return self.known[gate, at]
-
-    def find(self, gate, at):
-        kind = self.net.gates[gate][0]
-        if kind == "in":
-            return self.rows[at][[k for k, one in enumerate(self.net.gates) if one[0] == "in"].index(gate)]
-        return of_kind(kind, [self.wire(wire, at) for wire in self.net.wires if wire[1] == gate])
-
-    def wire(self, wire, at):
-        start, end, held = wire
-        return held[at] if at < len(held) else self.gate(start, at - len(held))
-
-    def net_behind(self):
-        many = len(self.rows)
-        return Net(self.net.gates, [(start, end, tuple(self.wire((start, end, held), many + k)
-                                                       for k in range(len(held))))
-                                    for start, end, held in self.net.wires])
-
-    def outs(self):
-        numbers = [k for k, one in enumerate(self.net.gates) if one[0] == "out"]
-        return [[self.gate(out, at) for out in numbers] for at in range(len(self.rows))]
 
 
 class EachKind(unittest.TestCase):

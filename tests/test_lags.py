@@ -5,15 +5,18 @@ import time
 import unittest
 
 from lagshift import lags as module
-from lagshift.errors import LagError, NoLags
+from lagshift.errors import LagError, NoLags, NotLet
 from lagshift.lags import are_let, counts, registers
+from lagshift.moves import moved
 from lagshift.nets import Net
 from lagshift.waits import with_lags
 from tests.slow import OUTER, held_on, gates_on, moved_counts, once_ways, rings_by_hand
 from tests.things import HUGE, bound_nets, few_registers, fixed_lags, fixed_net, greatest_net, odd_things, small_net
 
 SUM = ("sum", 1)
-TAKERS = [counts, are_let, lambda net, lags: with_lags(net, lags, 5)]
+ANY_TAKERS = [counts, are_let, lambda net, lags: with_lags(net, lags, 5)]
+LET_TAKERS = [lambda net, lags: moved(net, lags, [])]
+TAKERS = ANY_TAKERS + LET_TAKERS
 NO_LAG = odd_things() + [501, -501, 502, 1000, HUGE, -HUGE, "", "0", "1", [], [0], (), (0,)]
 
 
@@ -158,7 +161,7 @@ class Refused(unittest.TestCase):
         net = Net([SUM, ("one", 0)], [])
         for lag in (-500, -499, 499, 500):
             for lags in ([lag, 0], [0, lag], [lag, lag]):
-                for taker in TAKERS:
+                for taker in ANY_TAKERS:
                     self.assertIn(taker(net, lags), ([], True))
         for lag in (-501, 501):
             for lags in ([lag, 0], [0, lag], [lag, lag]):
@@ -182,6 +185,15 @@ class Refused(unittest.TestCase):
         net = Net([SUM, SUM], [(0, 1, ())])
         self.no_lags(net, [5, -501])
         self.no_lags(net, [5, 0, 0])
+
+    def test_not_let_with_the_first_wire(self):
+        net = Net([("in", 0), SUM, SUM, SUM], [(0, 1, (1,)), (1, 2, ()), (2, 3, (1, 2)), (2, 1, (3,)), (3, 3, (4,))])
+        for lags, wire in (([0, -2, 0, 0], 0), ([0, 1, 0, 0], 1), ([0, 0, 0, -3], 2), ([0, 0, 2, 0], 3),
+                           ([0, 0, 3, 0], 2), ([0, -500, 500, 500], 0), ([0, 500, 499, 0], 1), ([0, -1, -1, -4], 2)):
+            for taker in LET_TAKERS:
+                with self.assertRaises(NotLet) as caught:
+                    taker(net, lags)
+                self.assertEqual(caught.exception.wire, wire)
 
     def test_is_a_lag_error(self):
         for error in (LagError, ValueError):

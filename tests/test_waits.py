@@ -9,10 +9,9 @@ from lagshift.errors import LagError, NoBeat, NoLags
 from lagshift.nets import Net
 from lagshift.waits import beat_of, between, longest, with_lags
 from tests.slow import beat_by, between_by_hand, held, is_way, moved_counts, wait_on
-from tests.things import (HUGE, bound_nets, few_registers, fixed_lags, fixed_net, greatest_net, many_ways, odd_things,
+from tests.things import (HUGE, bound_nets, few_registers, fixed_lags, fixed_net, greatest_net, many_ways, no_beats,
                           small_net)
 
-NO_BEAT = odd_things() + [-1, -2, -HUGE, "", "5", [], [5], (), (5,)]
 
 
 def chain(*waits):
@@ -157,13 +156,13 @@ class WithLags(unittest.TestCase):
         self.assertGreater(let, 10)
 
     def test_no_beat(self):
-        for beat in NO_BEAT:
+        for beat in no_beats():
             for lags in ([0, 0, 0, 0], [0, 0, 2, 0]):
                 with self.assertRaises(NoBeat):
                     with_lags(self.NET, lags, beat)
 
     def test_no_lags_goes_ahead_of_no_beat(self):
-        for beat in NO_BEAT + [0, 7]:
+        for beat in no_beats() + [0, 7]:
             for lags in (None, [], [0, 0, 0], [0, 501, 0, 0], [1, 0, 0, 0], (0, 0, 0, 0), [0, True, 0, 0]):
                 with self.assertRaises(NoLags):
                     with_lags(self.NET, lags, beat)

@@ -1,6 +1,7 @@
 """Things that the tests share: odd things to hand in, sample nets, and nets made by a fixed rule."""
 
 from lagshift.nets import Net
+from tests.slow import OUTER, moved_counts
 
 
 class Touchy:
@@ -31,9 +32,31 @@ def odd_things():
 HUGE = 10 ** 60 - 1
 
 
+def no_beats():
+    """Things that are no beats."""
+    return odd_things() + [-1, -2, -HUGE, "", "5", [], [5], (), (5,)]
+
+
 def small_net():
     """An in, a sum that feeds itself, and an out."""
     return Net([("in", 0), ("sum", 3), ("out", 0)], [(0, 1, ()), (1, 1, (5,)), (1, 2, ())])
+
+
+def sample_net():
+    """Two ways from ins to outs, with a ring on the one, and wires of both ways between two gates."""
+    gates = [("in", 0), ("sum", 10), ("most", 20), ("out", 0), ("in", 0), ("one", 5), ("out", 0)]
+    wires = [(0, 1, ()), (1, 2, ()), (2, 3, (1,)), (2, 1, (1, 2)), (4, 5, (3,)), (5, 6, ()), (1, 1, (7,)),
+             (1, 2, (4,))]
+    return Net(gates, wires)
+
+
+def no_pieces():
+    """Things that are no pieces of the sample net."""
+    told = odd_things() + ["", "ab", 0, 1, HUGE, (), (1,), (1, [], []), [1, []], [], [[]], ([], 1), ((), [])]
+    told += [(gate, []) for gate in odd_things() + [-1, 7, 8, HUGE, -HUGE, "", "1", [], [1], (), (1,)]]
+    told += [(1, wires) for wires in odd_things() + ["", "1", 1, HUGE, (), (1,), {1: 1}, {1}]]
+    told += [(1, [place]) for place in odd_things() + [-1, -8, 8, 9, HUGE, -HUGE, "", "1", [], [1], (), (1,)]]
+    return told + [(1, [2]), (1, [1, 1]), (2, [1]), (0, [1]), (3, [0]), (1, [1, 2, 3]), (1, [1, None])]
 
 
 class Fixed:
@@ -108,6 +131,20 @@ def fixed_lags(seed, net, most):
     """Lags from -most to most."""
     fixed = Fixed(seed + 900)
     return [0 if kind in ("in", "out") else fixed.below(2 * most + 1) - most for kind, wait in net.gates]
+
+
+def let_lags(seed, net, turns=30):
+    """Lags that are let, come to by steps of one gate each."""
+    fixed = Fixed(seed + 1300)
+    lags = [0] * len(net.gates)
+    for turn in range(turns):
+        gate = fixed.below(len(lags))
+        way = 1 - 2 * fixed.below(2)
+        if net.gates[gate][0] not in OUTER:
+            lags[gate] += way
+            if min(moved_counts(net, lags), default=0) < 0:
+                lags[gate] -= way
+    return lags
 
 
 def few_registers(seed, gates=5, wires=7):
