@@ -2,9 +2,8 @@
 
 from lagshift.checks import check_beat
 from lagshift.graphs import settle
-from lagshift.nets import is_outer
-from lagshift.pieces import end_of, is_piece, room_of
-from lagshift.spots import bounds_for, lags_at, spots_in
+from lagshift.pieces import ends_of, is_piece, room_of
+from lagshift.spots import bounds_for, first_gap, lags_at, spots_in
 from lagshift.waits import between
 
 
@@ -15,17 +14,11 @@ def bar_fault(net, beat, thing):
         return ("form",)
     if not all([is_piece(net, piece) for piece in thing]):
         return ("form",)
-    for k, piece in enumerate(thing):
-        behind = thing[(k + 1) % len(thing)]
-        if not do_meet(net, end_of(net, piece), behind[0]):
-            return ("meet", k)
+    gap = first_gap(net, [ends_of(net, piece) for piece in thing])
+    if gap is not None:
+        return ("meet", gap)
     room = sum([room_of(net, beat, piece) for piece in thing])
     return ("sum", room) if room >= 0 else None
-
-
-def do_meet(net, end, start):
-    """Whether these two gates are the same, or an "in" or "out" each: then their lags are the same."""
-    return end == start or (is_outer(net.gates[end]) and is_outer(net.gates[start]))
 
 
 def for_beat(net, beat):

@@ -10,12 +10,23 @@ GREATEST_LAG = 500
 def counts(net, lags):
     """How many registers each wire has with these lags; below 0 where they aren't let."""
     check_lags(net, lags)
-    return [len(held) + lags[end] - lags[start] for start, end, held in net.wires]
+    return counts_by(net, lags)
+
+
+def counts_by(net, numbers):
+    """As counts, of numbers by gate that are not asked whether they are lags."""
+    return [len(held) + numbers[end] - numbers[start] for start, end, held in net.wires]
 
 
 def are_let(net, lags):
     """Whether no wire has fewer registers than none with these lags."""
-    return min(counts(net, lags), default=0) >= 0
+    check_lags(net, lags)
+    return are_let_by(net, lags)
+
+
+def are_let_by(net, numbers):
+    """As are_let, of numbers by gate that are not asked whether they are lags."""
+    return min(counts_by(net, numbers), default=0) >= 0
 
 
 def registers(net):

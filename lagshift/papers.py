@@ -2,7 +2,7 @@
 
 from lagshift.checks import is_whole
 from lagshift.nets import is_outer
-from lagshift.pieces import end_of, is_piece, room_of
+from lagshift.pieces import end_of, ends_of, is_piece, room_of
 
 
 def is_paper(net, thing):
@@ -44,7 +44,7 @@ def room_in(net, beat, paper):
 
 def plain_flow(net, bounds, places):
     """A flow whose paper is without fault where the wires at these places are counted: each wire for itself."""
-    ends = [(piece[0], end_of(net, piece)) for start, end, room, piece in bounds]
+    ends = [ends_of(net, piece) for start, end, room, piece in bounds]
     told = [0] * len(bounds)
     for place in places:
         told[ends.index((net.wires[place][0], net.wires[place][1]))] += 1

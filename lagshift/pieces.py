@@ -23,6 +23,11 @@ def end_of(net, piece):
     return net.wires[wires[-1]][1] if len(wires) > 0 else gate
 
 
+def ends_of(net, piece):
+    """The tuple (start, end) of the gates at which this piece begins and ends."""
+    return piece[0], end_of(net, piece)
+
+
 def wait_of(net, piece):
     """The sum of the waits of all gates on this piece, each as often as it is come by."""
     gate, wires = piece

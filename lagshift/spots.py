@@ -20,6 +20,19 @@ def spots_of(net):
     return [len(net.gates) if is_outer(gate) else number for number, gate in enumerate(net.gates)]
 
 
+def first_gap(net, ends):
+    """The place of the first of these tuples (start, end) of gates that doesn't end at the spot where the next begins.
+
+    Behind the last one comes the first one. None is told where there is no such place.
+    """
+    spots = spots_of(net)
+    for k, (start, end) in enumerate(ends):
+        behind = ends[(k + 1) % len(ends)]
+        if spots[end] != spots[behind[0]]:
+            return k
+    return None
+
+
 def lags_at(net, found):
     """The lags that these numbers of the spots are."""
     # Only the differences of lags matter, so all are moved alike, to have 0 of each "in" and "out".
@@ -43,10 +56,8 @@ def bounds_for(net, beat):
 
 
 def near_lags(net, many, bounds):
-    """Lags that keep to these bounds, to which some numbers of the first so many places keep.
-
-    Such lags may be moved far away from 0; told are some from -500 to 500, if there are any.
-    """
+    """Lags by numbers of so many places that keep to these bounds, as some do; from -500 to 500 if there are such."""
+    # Gates that no wires join with an "in" or "out" may be moved alike, so what is settled may lie far from 0.
     outer = len(net.gates)
     limits = []
     for spot in range(outer):

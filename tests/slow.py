@@ -220,3 +220,9 @@ def fewest_by_hand(net, beat, most, count=sum):
             here = count(many)
             best = here if best is None else min(best, here)
     return best
+
+
+def shared_by_hand(net, many):
+    """The registers that there are where the wires out of each gate share theirs, many told by wire."""
+    starts = {wire[0] for wire in net.wires}
+    return sum(max(here for wire, here in zip(net.wires, many) if wire[0] == start) for start in starts)

@@ -9,7 +9,7 @@ from lagshift import beats
 from lagshift.beats import beat, run, worths
 from lagshift.errors import LagError, NoRow
 from lagshift.nets import Net
-from tests.slow import Slow, of_kind
+from tests.slow import Slow
 from tests.things import HUGE, fixed_net, fixed_rows, greatest_net, odd_things, small_net
 
 BAD_WORTHS = odd_things() + [-1, 97, 98, 100, 101, HUGE, -HUGE, "", "1", [], [1], (), (1,)]

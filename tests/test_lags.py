@@ -9,13 +9,15 @@ from lagshift.errors import LagError, NoLags, NotLet
 from lagshift.lags import are_let, counts, registers
 from lagshift.moves import moved
 from lagshift.nets import Net
+from lagshift.shares import shared
+from lagshift.steps import steps, steps_fault
 from lagshift.waits import with_lags
 from tests.slow import OUTER, held_on, gates_on, moved_counts, once_ways, rings_by_hand
 from tests.things import HUGE, bound_nets, few_registers, fixed_lags, fixed_net, greatest_net, odd_things, small_net
 
 SUM = ("sum", 1)
 ANY_TAKERS = [counts, are_let, lambda net, lags: with_lags(net, lags, 5)]
-LET_TAKERS = [lambda net, lags: moved(net, lags, [])]
+LET_TAKERS = [lambda net, lags: moved(net, lags, []), steps, lambda net, lags: steps_fault(net, lags, None), shared]
 TAKERS = ANY_TAKERS + LET_TAKERS
 NO_LAG = odd_things() + [501, -501, 502, 1000, HUGE, -HUGE, "", "0", "1", [], [0], (), (0,)]
 

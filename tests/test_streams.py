@@ -11,26 +11,16 @@ from lagshift.errors import LagError, NoStreams
 from lagshift.nets import Net
 from lagshift.rings import loads, rings
 from lagshift.streams import parted, slowed, woven
-from tests.things import (HUGE, Fixed, bound_nets, few_registers, fixed_net, fixed_rows, odd_things, small_net)
+from tests.things import (HUGE, bound_nets, by_turns, few_registers, fixed_net, fixed_rows, like, odd_things,
+                          small_net)
 
 NO_K = odd_things() + [0, -1, 5, 6, -4, HUGE, -HUGE, "", "1", "2", [], [1], (), (1,)]
-
-
-def like(net, seed):
-    """A net of the same form with as many registers on each wire, of other worths."""
-    fixed = Fixed(seed + 31)
-    return Net(net.gates, [(start, end, tuple(fixed.below(97) for worth in held)) for start, end, held in net.wires])
 
 
 def family(seed, many):
     """So many nets that can be woven."""
     net = fixed_net(seed, 3 + seed % 8, 6 + seed % 12, 1 + seed % 3)
     return [net] + [like(net, seed + k) for k in range(1, many)]
-
-
-def by_turns(lists):
-    """The things of several lists of one length, by turns."""
-    return [one[k] for k in range(len(lists[0])) for one in lists]
 
 
 class Woven(unittest.TestCase):

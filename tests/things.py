@@ -116,6 +116,22 @@ def fixed_rows(seed, net, many):
     return [[fixed.below(97) for gate in net.ins()] for k in range(many)]
 
 
+def by_turns(lists):
+    """The things of several lists of one length, by turns."""
+    return [one[k] for k in range(len(lists[0])) for one in lists]
+
+
+def like(net, seed):
+    """A net of the same form with as many registers on each wire, of other worths."""
+    fixed = Fixed(seed + 31)
+    return Net(net.gates, [(start, end, tuple(fixed.below(97) for worth in held)) for start, end, held in net.wires])
+
+
+def with_registers(net, many):
+    """The net with so many registers on each wire."""
+    return Net(net.gates, [(start, end, (7,) * here) for (start, end, held), here in zip(net.wires, many)])
+
+
 def greatest_net():
     """A net at the bounds: twelve gates, thirty wires, two hundred registers."""
     gates = [("in", 0), ("in", 0)] + [(kind, 100) for kind in (*INNER, "sum", "times")] + [("out", 0), ("out", 0)]
